@@ -1,0 +1,1 @@
+"""Shapewright: an ML-like language with modules, its shapes, its meaning and its machine."""

@@ -1,0 +1,67 @@
+"""The characters, words and names of the language."""
+
+SMALL_LETTERS = "abcdefghijklmnopqrstuvwxyz"
+CAPITAL_LETTERS = "ABCDEFGHIJKLMNOPQRSTUVWXYZ"
+DIGITS = "0123456789"
+NAME_CHARACTERS = "abcdefghijklmnopqrstuvwxyzABCDEFGHIJKLMNOPQRSTUVWXYZ0123456789_"
+
+MAX_NAME = 16
+MAX_PATH = 6
+LEAST_INTEGER = -2147483648
+GREATEST_INTEGER = 2147483647
+
+WORDS = (
+    "alias", "all", "and", "andalso", "as", "case", "div", "else", "end", "exception", "fn", "functor",
+    "handle", "if", "in", "include", "let", "mod", "module", "of", "open", "orelse", "raise", "rec",
+    "shape", "sig", "signature", "struct", "then", "val", "variant", "where",
+)
+
+# The operators that stand between two operands in a text.
+INFIX = ("*", "div", "mod", "+", "-", "@", "=", "<>", "<", "<=", ">", ">=", ":=")
+OPERATORS = ("*", "div", "mod", "+", "-", "@", "=", "<>", "<", "<=", ">", ">=", ":=", "~", "!")
+
+
+def is_integer(value):
+    """Whether the value is an integer of the language; a boolean is none."""
+    if isinstance(value, bool) or not isinstance(value, int):
+        return False
+    return LEAST_INTEGER <= value <= GREATEST_INTEGER
+
+
+def is_identifier(value):
+    if not isinstance(value, str) or not 1 <= len(value) <= MAX_NAME:
+        return False
+    if value[0] == "_" or value[0] in DIGITS or value in WORDS:
+        return False
+    return all(character in NAME_CHARACTERS for character in value)
+
+
+def is_small(value):
+    return is_identifier(value) and value[0] in SMALL_LETTERS
+
+
+def is_capital(value):
+    return is_identifier(value) and value[0] in CAPITAL_LETTERS
+
+
+def is_value_name(value):
+    return is_small(value) or (isinstance(value, str) and value in OPERATORS)
+
+
+def begins_path(value):
+    """Whether the value is a tuple as long as a path whose names but the last one are those of modules."""
+    if not isinstance(value, tuple) or not 1 <= len(value) <= MAX_PATH:
+        return False
+    return all(is_capital(name) for name in value[:-1])
+
+
+def is_small_path(value):
+    return begins_path(value) and is_small(value[-1])
+
+
+def is_capital_path(value):
+    return begins_path(value) and is_capital(value[-1])
+
+
+def is_value_path(value):
+    return begins_path(value) and is_value_name(value[-1])
