@@ -1,6 +1,6 @@
 """Schemes: shapes with general variables."""
 
-from shapewright.terms import parts_of_shape, substitute, variables, with_parts
+from shapewright.terms import parts_of_shape, substitute, variables
 
 
 def close(shape, fixed):

@@ -1,0 +1,117 @@
+"""The names and arguments of the interface, and its examples as they stand there."""
+
+import importlib
+import inspect
+import unittest
+
+from shapewright.errors import BadText, NotUnifiable
+
+INTERFACE = {
+    "trees": (
+        "is_shape(tree) is_pattern(tree) is_expression(tree) is_declaration(tree) is_module(tree) is_signature(tree) "
+        "is_program(tree) children(tree) at_place(tree,place) count_nodes(tree) depth(tree)"
+    ),
+    "tokens": "split_tokens(text)",
+    "reader": "read_program(text) read_expression(text) read_pattern(text) read_shape(text)",
+    "printer": (
+        "print_program(1) print_expression(1) print_pattern(1) print_shape(1) print_declaration(1) print_module(1) "
+        "print_signature(1)"
+    ),
+    "terms": "is_shape(value,arities) size(shape) depth(shape) variables(shape) substitute(shape,mapping)",
+    "unify": "unifies(mapping,equations) unify(equations)",
+    "schemes": (
+        "close(shape,fixed) instantiate(scheme,shapes) match_instance(scheme,shape) at_least_as_general(scheme,other)"
+    ),
+    "context": (
+        "lookup(entries,space,path) constructor_scheme(entry) free_variables(entries) settle(entries,mapping)"
+    ),
+    "variants": "elaborate(context,names,surface) elaborate_scheme(context,scheme) declare(context,declaration)",
+    "judge": (
+        "right_pattern(context,pattern,derivation) right_expression(context,expression,derivation) "
+        "right_declaration(context,declaration,derivation) is_expansive(expression)"
+    ),
+    "names": "check_names(context,phrase)",
+}
+
+
+class Interface(unittest.TestCase):
+    def test_every_function_is_defined_in_its_file_with_its_arguments(self):
+        for name, functions in INTERFACE.items():
+            module = importlib.import_module(f"shapewright.{name}")
+            for row in functions.split():
+                word, arguments = row[:-1].split("(")
+                function = getattr(module, word)
+                self.assertEqual(function.__module__, module.__name__, row)
+                names = list(inspect.signature(function).parameters)
+                if arguments.isdigit():
+                    self.assertEqual(len(names), int(arguments), row)
+                else:
+                    self.assertEqual(names, arguments.split(","), row)
+
+
+class Examples(unittest.TestCase):
+    def test_reader(self):
+        from shapewright.reader import read_expression, read_shape
+
+        self.assertEqual(
+            read_expression("f 1 :: nil_list"),
+            ("app", ("con", ("Cons",)), ("tuple", (("app", ("var", ("f",)), ("int", 1)), ("var", ("nil_list",))))),
+        )
+        with self.assertRaises(BadText) as caught:
+            read_expression("1 + )")
+        self.assertEqual(caught.exception.at, 4)
+        self.assertEqual(
+            read_shape("('a, int) S.map -> 'a list"),
+            ("sarrow", ("sname", ("S", "map"), (("svar", "a"), ("sname", ("int",), ()))), ("sname", ("list",), (("svar", "a"),))),
+        )
+
+    def test_printer(self):
+        from shapewright.printer import print_expression
+
+        call = ("app", ("var", ("+",)), ("tuple", (("var", ("x",)), ("int", -1))))
+        tree = ("app", ("fn", ((("pvar", "x"), call),)), ("int", 2))
+        self.assertEqual(print_expression(tree), "(fn x => x + ~1) 2")
+
+    def test_constants(self):
+        from shapewright import terms
+
+        self.assertEqual((terms.FREE, terms.MAX_SIZE, terms.MAX_DEPTH), (1000000, 2000, 100))
+        self.assertEqual(terms.ARITIES, (0, 0, 0, 1, 0, 1, 1, 0))
+        shapes = (terms.INT, terms.UNIT, terms.EXN, terms.BOOL)
+        self.assertEqual(shapes, (("c", 0, ()), ("c", 1, ()), ("c", 2, ()), ("c", 4, ())))
+
+    def test_unify(self):
+        from shapewright.unify import unify
+
+        x, y = ("v", 1000000), ("v", 1000001)
+        self.assertEqual(
+            unify([(("f", x, y), ("f", ("c", 0, ()), ("t", (x, x))))]),
+            {1000000: ("c", 0, ()), 1000001: ("t", (("c", 0, ()), ("c", 0, ())))},
+        )
+        with self.assertRaises(NotUnifiable):
+            unify([(x, ("t", (x, y)))])
+
+    def test_schemes(self):
+        from shapewright.schemes import close, match_instance
+
+        self.assertEqual(
+            close(("f", ("v", 1000007), ("f", ("v", 1000003), ("v", 1000007))), (1000003,)),
+            (1, ("f", ("v", 0), ("f", ("v", 1000003), ("v", 0)))),
+        )
+        self.assertIsNone(match_instance((1, ("f", ("v", 0), ("v", 0))), ("f", ("c", 0, ()), ("c", 1, ()))))
+
+    def test_judge(self):
+        from shapewright.judge import right_declaration, right_expression
+        from shapewright.terms import ARITIES
+
+        a, I, U = ("v", 1000000), ("c", 0, ()), ("c", 1, ())
+        identity = ("fn", ((("pvar", "x"), ("var", ("x",))),))
+        d = ("fn", ("f", a, a), ((("pvar", a), ("var", a, ())),))
+        self.assertIs(right_expression(((), ARITIES), identity, d), True)
+        result = right_declaration(((), ARITIES), ("val", ("pvar", "i"), identity), ("val", ("pvar", ("f", a, a)), d))
+        self.assertEqual(result, ((("val", "i", (1, ("f", ("v", 0), ("v", 0)))),), (0, 0, 0, 1, 0, 1, 1, 0)))
+        pair = ("tuple", (("app", ("var", ("i",)), ("int", 1)), ("app", ("var", ("i",)), ("unit",))))
+        one = ("app", I, ("var", ("f", I, I), (I,)), ("int", I))
+        two = ("app", U, ("var", ("f", U, U), (U,)), ("unit", U))
+        context = ((("val", "i", (1, ("f", ("v", 0), ("v", 0)))),), ARITIES)
+        self.assertIs(right_expression(context, pair, ("tuple", ("t", (I, U)), (one, two))), True)
