@@ -1,7 +1,7 @@
 """Contexts: what is known of the names that are in scope."""
 
 from shapewright.schemes import generalized
-from shapewright.terms import EXN, FREE, substitute, variables, within_bounds
+from shapewright.terms import EXN, FREE, substitute, variables
 
 SPACES = {"exn": "con"}
 
@@ -44,7 +44,6 @@ def constructor_scheme(entry):
     else:
         count, argument, result = entry[2], entry[3], entry[4]
     shape = result if argument is None else ("f", argument, result)
-    within_bounds(shape)
     return generalized(shape, [number for number in variables(shape) if number < count])
 
 

@@ -1,7 +1,6 @@
 """The forms of the trees: for each kind and tag, what the fields of a tree hold."""
 
-from shapewright.lexicon import is_capital, is_capital_path, is_integer, is_small, is_small_path
-from shapewright.lexicon import is_value_name, is_value_path
+from shapewright.lexicon import LEAVES, is_capital, is_list, is_names, is_small, is_value_name
 
 MAX_NODES = 400
 MAX_LEVEL = 14
@@ -74,14 +73,6 @@ def fields_of(kind, tag):
     return FORMS.get(f"{kind} {tag}")
 
 
-def is_list(value, low, high):
-    return isinstance(value, tuple) and low <= len(value) <= high
-
-
-def is_names(value):
-    return is_list(value, 0, 4) and all(is_small(name) for name in value)
-
-
 def optional_part(kind, value):
     return [] if value is None else [(kind, value)]
 
@@ -144,16 +135,6 @@ def group_parts(value):
     return joined_parts(value, element_parts) if is_list(value, 1, 4) else None
 
 
-LEAVES = {
-    "small": is_small,
-    "capital": is_capital,
-    "value name": is_value_name,
-    "integer": is_integer,
-    "small path": is_small_path,
-    "capital path": is_capital_path,
-    "value path": is_value_path,
-    "names": is_names,
-}
 GROUPS = {"scheme": scheme_parts, "rules": rules_parts, "bindings": bindings_parts, "group": group_parts}
 
 

@@ -7,6 +7,7 @@ NAME_CHARACTERS = "abcdefghijklmnopqrstuvwxyzABCDEFGHIJKLMNOPQRSTUVWXYZ012345678
 
 MAX_NAME = 16
 MAX_PATH = 6
+MAX_PARAMETERS = 4
 LEAST_INTEGER = -2147483648
 GREATEST_INTEGER = 2147483647
 
@@ -28,31 +29,38 @@ def is_integer(value):
     return LEAST_INTEGER <= value <= GREATEST_INTEGER
 
 
-def is_identifier(value):
-    if not isinstance(value, str) or not 1 <= len(value) <= MAX_NAME:
+def is_name(value, first_letters):
+    """Whether the value is an identifier that begins with one of these letters."""
+    if not isinstance(value, str) or not 1 <= len(value) <= MAX_NAME or value in WORDS:
         return False
-    if value[0] == "_" or value[0] in DIGITS or value in WORDS:
-        return False
-    return all(character in NAME_CHARACTERS for character in value)
+    return value[0] in first_letters and all(character in NAME_CHARACTERS for character in value)
 
 
 def is_small(value):
-    return is_identifier(value) and value[0] in SMALL_LETTERS
+    return is_name(value, SMALL_LETTERS)
 
 
 def is_capital(value):
-    return is_identifier(value) and value[0] in CAPITAL_LETTERS
+    return is_name(value, CAPITAL_LETTERS)
 
 
 def is_value_name(value):
     return is_small(value) or (isinstance(value, str) and value in OPERATORS)
 
 
+def is_list(value, low, high):
+    """Whether the value is a tuple with so many elements."""
+    return isinstance(value, tuple) and low <= len(value) <= high
+
+
+def is_names(value):
+    """Whether the value is a list of parameter names."""
+    return is_list(value, 0, MAX_PARAMETERS) and all(is_small(name) for name in value)
+
+
 def begins_path(value):
     """Whether the value is a tuple as long as a path whose names but the last one are those of modules."""
-    if not isinstance(value, tuple) or not 1 <= len(value) <= MAX_PATH:
-        return False
-    return all(is_capital(name) for name in value[:-1])
+    return is_list(value, 1, MAX_PATH) and all(is_capital(name) for name in value[:-1])
 
 
 def is_small_path(value):
@@ -65,3 +73,16 @@ def is_capital_path(value):
 
 def is_value_path(value):
     return begins_path(value) and is_value_name(value[-1])
+
+
+# What the parts of a tree that are no trees can be.
+LEAVES = {
+    "small": is_small,
+    "capital": is_capital,
+    "value name": is_value_name,
+    "integer": is_integer,
+    "small path": is_small_path,
+    "capital path": is_capital_path,
+    "value path": is_value_path,
+    "names": is_names,
+}

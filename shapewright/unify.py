@@ -143,17 +143,14 @@ def solution(graph, order):
         parts = graph.parts_of_class(root)
         sizes[root] = 1 + sum(sizes[part] for part in parts)
         depths[root] = 1 + max([depths[part] for part in parts], default=0)
-        if fits(root, sizes, depths):
-            built[root] = with_parts(graph.shapes[root], [built[part] for part in parts])
+        # Parts are shared, so that even a shape that is far too large costs little here.
+        built[root] = with_parts(graph.shapes[root], [built[part] for part in parts])
     mapping = {}
     for number, node in graph.variable_nodes.items():
         root = graph.root(node)
-        if not fits(root, sizes, depths):
+        if sizes[root] > MAX_SIZE or depths[root] > MAX_DEPTH:
             raise TooLarge("a shape of the unifier is too large")
         if root != node:
             mapping[number] = built[root]
     return mapping
 
-
-def fits(root, sizes, depths):
-    return sizes[root] <= MAX_SIZE and depths[root] <= MAX_DEPTH

@@ -271,7 +271,7 @@ class Lists(unittest.TestCase):
             self.assertFalse(is_expression(("fn", (rule,))), rule)
         for binding in (("f", None), ("f", None, (RULE,), ()), ("F", None, (RULE,)), (("f",), None, (RULE,)), "f"):
             self.assertFalse(is_declaration(("rec", (binding,))), binding)
-        for element in (((), "t"), ((), "T", (("C", None),)), ((), "t", ("C", None)), ((), "t", (("c", None),)), "t"):
+        for element in (((), "t"), ((), "t", (("C", None),), ()), ((), "T", (("C", None),)), ((), "t", ("C", None)), ((), "t", (("c", None),)), "t"):
             self.assertFalse(is_declaration(("variant", (element,))), element)
         for constructor in (("C",), ("C", None, None), "C", ("C", P), ("C", True)):
             self.assertFalse(is_declaration(("variant", (((), "t", (constructor,)),))), constructor)

@@ -204,6 +204,13 @@ class Fixed(Case):
         self.right(text, ("rec", (("fixed", (self.M, self.N), d),)), val("f", (2, fun(G0, fun(G1, G0)))))
         self.wrong(text, ("rec", (("fixed", (self.N, self.M), d),)))
 
+    def test_numbers_are_those_of_free_variables(self):
+        text = "rec f : all 'b 'a . 'a -> 'a = fn x => x"
+        d = dfn(("pvar", self.VN), dvar(self.VN))
+        for number, right in ((FREE, True), (FREE + 1, True), (FREE - 1, False), (0, False), (-1, False)):
+            result = self.result(text, ("rec", (("fixed", (number, self.N), d),)))
+            self.assertEqual(result is not None, right, number)
+
     def test_different_numbers(self):
         d = dfn(("pvar", self.VN), dfn(("pany", self.VN), dvar(self.VN)))
         self.wrong("rec f : all 'a 'b . 'a -> 'b -> 'a = fn x => fn _ => x", ("rec", (("fixed", (self.N, self.N), d),)))

@@ -48,6 +48,7 @@ class Names(unittest.TestCase):
         self.fine(
             "3", "()", "n", "E", "S.m", "S.G", "S.T.k", "f n", "n + 1", "(n, E, 3)", "fn x => x", "fn x => fn y => (x, y)", "case n of x => x", "raise E", "n handle E => 1 | x => raise x",
             "n : int", "n : int list", "n : S.t", "let val x = n in x end", "if n then n else n", "n :: n", "fn True => n | S.G => n", "fn (x : int) => x", "fn x as (y, z) => (x, y, z)",
+            "fn _ => n", "fn 1 => n", "fn () => n", "fn (_, 1, ()) => (1, ())", "case () of (_ : int) => ()", "fn x as _ => x", "fn True => 1",
         )
 
     def test_shapes_do_not_matter(self):

@@ -1,8 +1,9 @@
 """The grammar and how trees are built: 1.7 and 1.8."""
 
+import random
 import unittest
 
-from shapewright.errors import BadText
+from shapewright.errors import BadText, NotWellFormed
 from shapewright.reader import read_expression, read_pattern, read_program, read_shape
 
 
@@ -118,7 +119,7 @@ class Atoms(Case):
         self.same(read_expression, [
             ("f a", ("app", F, A)), ("f a b", ("app", ("app", F, A), B)), ("f (a b)", ("app", F, ("app", A, B))),
             ("~ x", ("app", var("~"), X)), ("! x", ("app", var("!"), X)), ("!x", ("app", var("!"), X)), ("f ~ x", ("app", ("app", F, var("~")), X)),
-            ("f ~3", ("app", F, ("int", -3))), ("(~ x)", ("app", var("~"), X)), ("C x", ("app", ("con", ("C",)), X)),
+            ("f ! x", ("app", ("app", F, var("!")), X)), ("f ~3", ("app", F, ("int", -3))), ("(~ x)", ("app", var("~"), X)), ("C x", ("app", ("con", ("C",)), X)),
             ("f S.x C", ("app", ("app", F, ("var", ("S", "x"))), ("con", ("C",)))), ("f ()", ("app", F, ("unit",))),
             ("f ( + ) a", ("app", ("app", F, var("+")), A)), ("f let val x = a in b end", ("app", F, ("let", (("val", PX, A),), B))),
             ("( + ) (a, b)", infix("+", A, B)), ("Cons (a, b)", cons(A, B)),
@@ -171,8 +172,32 @@ class Operators(Case):
             ("a := b = c + d", infix(":=", A, infix("=", B, infix("+", C, D)))),
             ("a * b + c = d", infix("=", infix("+", infix("*", A, B), C), D)),
             ("a + b * c :: d", cons(infix("+", A, infix("*", B, C)), D)),
-            ("a = b :: c = d", infix("=", infix("=", A, cons(B, C)), D)),
+            ("a = b :: c = d", infix("=", infix("=", A, cons(B, C)), D)), ("a = b * c + d", infix("=", A, infix("+", infix("*", B, C), D))),
+            ("a :: b * c + d", cons(A, infix("+", infix("*", B, C), D))), ("a := b + c * d - x", infix(":=", A, infix("-", infix("+", B, infix("*", C, D)), X))),
         ])
+
+    def plainly(self, words, level):
+        """The tree of operands and signs in turn: the last sign of a level to the left, the first one to the right."""
+        if len(words) == 1:
+            return var(words[0])
+        places = [at for at in range(1, len(words), 2) if words[at] in self.LEVELS[level]]
+        if not places:
+            return self.plainly(words, level - 1)
+        at = places[0] if words[places[0]] in ("::", "@") else places[-1]
+        return self.node(words[at], self.plainly(words[:at], level), self.plainly(words[at + 1:], level))
+
+    def test_long_operations(self):
+        signs = [sign for row in self.LEVELS for sign in row]
+        for seed in range(300):
+            source = random.Random(seed)
+            words = ["a"]
+            for _ in range(source.choice((3, 5, 7))):
+                words.extend([source.choice(signs), source.choice("abcdx")])
+            try:
+                tree = read_expression(" ".join(words))
+            except NotWellFormed:
+                continue
+            self.assertEqual(tree, self.plainly(words, 4), words)
 
     def test_andalso_and_orelse(self):
         self.same(read_expression, [

@@ -154,6 +154,8 @@ class Nesting(unittest.TestCase):
             # The mark of the rules is cleared, too.
             self.passes("fn " * 30 + f"{sign} => " + "raise " * 40)
             self.passes("fn " * 30 + f"{sign} | " + "raise " * 40)
+            self.refused("fn " * 30 + f"{sign} => " + "raise " * 41)
+            self.refused("fn " * 30 + f"{sign} | " + "raise " * 41)
 
     def test_what_does_not_set_a_count_to_zero(self):
         for sign in ("then", "else", "of", "=", ":", "where", "all", "x", "+", ")", "end"):

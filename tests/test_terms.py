@@ -23,7 +23,7 @@ class Shapes(unittest.TestCase):
             ("c",), ("c", 0), ("c", 0, 0), ("c", 0, (INT,)), ("c", 3, ()), ("c", 3, (INT, INT)), ("c", 8, ()), ("c", -1, ()), ("c", "0", ()),
             ("c", 0, (), ()), ("c", 0, "", ), ("c", 3, INT), ("c", (0,), ()), ("t", ()), ("t", (INT,)), ("t", (INT,) * 7), ("t", INT), ("t",),
             ("t", INT, INT), ("t", "ab"), ("f", INT), ("f", INT, INT, INT), ("f", (INT, INT)), ("f", INT, 0), ("f", (), INT), ("f", INT, ("v",)),
-            ("t", (INT, ("v", -1))), ("c", 3, (("c", 0, (INT,)),)), ("f", ("t", (INT,)), INT), ("svar", "a"), ("sarrow", INT, INT),
+            ("t", (INT, ("v", -1))), ("x", 0, ()), (0, 0, ()), ("con", 0, ()), ("cc", 0, ()), ("c", 3, (("c", 0, (INT,)),)), ("f", ("t", (INT,)), INT), ("svar", "a"), ("sarrow", INT, INT),
         ):
             self.assertIs(is_shape(value, ARITIES), False, value)
 
@@ -128,6 +128,8 @@ class Substitutions(unittest.TestCase):
     def test_large_shapes_that_do_not_get_into_the_result(self):
         huge = ("t", (wide(2000, INT), wide(2000, INT)))
         self.assertEqual(substitute(("f", X, INT), {1000001: huge, 1000000: INT}), ("f", INT, INT))
+        # A stamp is no variable, though its number may be the same.
+        self.assertEqual(substitute(("f", INT, ("c", 5, (UNIT,))), {0: huge, 1: huge, 5: huge}), ("f", INT, ("c", 5, (UNIT,))))
 
     def test_a_shape_may_become_smaller_or_stay(self):
         self.assertEqual(substitute(wide(2000, X), {1000000: INT}), wide(2000, INT))

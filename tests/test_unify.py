@@ -94,7 +94,7 @@ class Unify(unittest.TestCase):
             [], [(A, A)], [(INT, INT)], [(A, INT)], [(INT, A)], [(A, B)], [(A, B), (B, A)], [(A, B), (B, C), (C, D)], [(fun(A, B), fun(INT, UNIT))],
             [(pair(A, B), pair(B, INT))], [(A, listed(B)), (B, INT)], [(listed(A), listed(listed(B)))], [(A, fun(B, C)), (A, fun(C, B))],
             [(A, INT), (A, INT)], [(A, INT), (INT, A)], [(fun(A, A), fun(fun(B, C), fun(C, B)))], [(A, B), (A, INT)], [(fun(A, B), C), (C, fun(B, A))],
-            [(("v", 0), ("v", 1)), (("v", 1), listed(A))], [(("t", (A, B, C)), ("t", (B, C, INT)))],
+            [(("v", 0), ("v", 1)), (("v", 1), listed(A))], [(("v", 5), INT), (listed(A), listed(UNIT))], [(("v", 0), UNIT), (A, INT)], [(("t", (A, B, C)), ("t", (B, C, INT)))],
         ):
             self.assertTrue(self.same(equations), equations)
 

@@ -3,7 +3,7 @@
 import copy
 import unittest
 
-from shapes import free, fun, listed, towers
+from shapes import free, fun, listed, towers, wide
 from shapewright.context import constructor_scheme, lookup
 from shapewright.errors import DuplicateName, ShapewrightError, TooLarge, UnknownName, WrongArity
 from shapewright.reader import read_program, read_shape
@@ -78,11 +78,9 @@ class Elaborate(Case):
 
     def test_too_large(self):
         tower = towers(99, INT)
-        wide = ("t", (INT,) * 6)
-        for _ in range(3):
-            wide = ("t", (wide,) * 6)
-        self.assertEqual(size(wide), 1555)
-        entries = (*ENTRIES, ("shape", "deep", 0, tower), ("shape", "wide", 0, wide), ("name", "d", tower))
+        large = wide(1555, INT)
+        self.assertEqual(size(large), 1555)
+        entries = (*ENTRIES, ("shape", "deep", 0, tower), ("shape", "wide", 0, large), ("name", "d", tower))
         context = (entries, ARITIES)
         self.assertEqual(depth(elaborate(context, (), read_shape("deep"))), 100)
         for text in (
@@ -91,8 +89,25 @@ class Elaborate(Case):
         ):
             with self.assertRaises(TooLarge, msg=text):
                 elaborate(context, (), read_shape(text))
-        for text, shape in (("deep const", INT), ("wide const * int", ("t", (INT, INT))), ("wide", wide), ("'d", tower)):
+        for text, shape in (("deep const", INT), ("wide const * int", ("t", (INT, INT))), ("wide", large), ("'d", tower)):
             self.assertEqual(elaborate(context, (), read_shape(text)), shape)
+
+
+    def test_the_bounds_of_the_parts(self):
+        def fits(text, size_of_wide, levels):
+            entries = (*ENTRIES, ("shape", "wide", 0, wide(size_of_wide, INT)), ("shape", "deep", 0, towers(levels, INT)))
+            try:
+                elaborate((entries, ARITIES), (), read_shape(text))
+            except TooLarge:
+                return False
+            return True
+
+        for text, greatest in (("wide * int", 1998), ("wide -> int", 1998), ("int -> wide", 1998), ("wide list", 1999), ("wide", 2000), ("(wide * int) const", 1998), ("wide list const", 1999)):
+            self.assertTrue(fits(text, greatest, 1), text)
+            self.assertFalse(fits(text, greatest + 1, 1), text)
+        for text, greatest in (("deep * int", 98), ("int -> deep", 98), ("deep list", 98), ("deep", 99), ("(int * deep list) const", 97)):
+            self.assertTrue(fits(text, 1, greatest), text)
+            self.assertFalse(fits(text, 1, greatest + 1), text)
 
 
 class Schemes(Case):
