@@ -1,6 +1,7 @@
 """The forms of the trees: for each kind and tag, what the fields of a tree hold."""
 
-from shapewright.lexicon import LEAVES, is_capital, is_list, is_names, is_small, is_value_name
+from shapewright.integers import is_list
+from shapewright.lexicon import LEAVES, is_capital, is_names, is_small, is_value_name
 
 MAX_NODES = 400
 MAX_LEVEL = 14

@@ -2,9 +2,10 @@
 
 from shapewright.context import constructor_scheme, extended, extended_by_bindings, free_variables, lookup
 from shapewright.errors import ShapewrightError
+from shapewright.integers import is_number
 from shapewright.pattern_judge import has_form, is_instance, is_tuple, pattern_bindings
 from shapewright.schemes import close
-from shapewright.terms import EXN, FREE, INT, UNIT, is_number, variables
+from shapewright.terms import EXN, FREE, INT, UNIT, variables
 from shapewright.variants import declare, elaborate, elaborate_scheme
 
 

@@ -1,5 +1,7 @@
 """The characters, words and names of the language."""
 
+from shapewright.integers import is_integer, is_list
+
 SMALL_LETTERS = "abcdefghijklmnopqrstuvwxyz"
 CAPITAL_LETTERS = "ABCDEFGHIJKLMNOPQRSTUVWXYZ"
 DIGITS = "0123456789"
@@ -8,8 +10,6 @@ NAME_CHARACTERS = "abcdefghijklmnopqrstuvwxyzABCDEFGHIJKLMNOPQRSTUVWXYZ012345678
 MAX_NAME = 16
 MAX_PATH = 6
 MAX_PARAMETERS = 4
-LEAST_INTEGER = -2147483648
-GREATEST_INTEGER = 2147483647
 
 WORDS = (
     "alias", "all", "and", "andalso", "as", "case", "div", "else", "end", "exception", "fn", "functor",
@@ -20,13 +20,6 @@ WORDS = (
 # The operators that stand between two operands in a text.
 INFIX = ("*", "div", "mod", "+", "-", "@", "=", "<>", "<", "<=", ">", ">=", ":=")
 OPERATORS = ("*", "div", "mod", "+", "-", "@", "=", "<>", "<", "<=", ">", ">=", ":=", "~", "!")
-
-
-def is_integer(value):
-    """Whether the value is an integer of the language; a boolean is none."""
-    if isinstance(value, bool) or not isinstance(value, int):
-        return False
-    return LEAST_INTEGER <= value <= GREATEST_INTEGER
 
 
 def is_name(value, first_letters):
@@ -46,11 +39,6 @@ def is_capital(value):
 
 def is_value_name(value):
     return is_small(value) or (isinstance(value, str) and value in OPERATORS)
-
-
-def is_list(value, low, high):
-    """Whether the value is a tuple with so many elements."""
-    return isinstance(value, tuple) and low <= len(value) <= high
 
 
 def is_names(value):

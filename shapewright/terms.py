@@ -1,6 +1,7 @@
 """Shapes: what the language knows of a value before the program runs."""
 
 from shapewright.errors import TooLarge
+from shapewright.integers import is_list, is_number
 
 FREE = 1000000
 MAX_SIZE = 2000
@@ -27,10 +28,6 @@ def is_shape(value, arities):
     return True
 
 
-def is_number(value):
-    return isinstance(value, int) and not isinstance(value, bool) and value >= 0
-
-
 def is_node(value, arities):
     """Whether the value has the form of a shape, whatever its parts are."""
     if not isinstance(value, tuple) or len(value) < 2:
@@ -40,7 +37,7 @@ def is_node(value, arities):
     if value[0] == "f":
         return len(value) == 3
     if value[0] == "t":
-        return len(value) == 2 and isinstance(value[1], tuple) and 2 <= len(value[1]) <= 6
+        return len(value) == 2 and is_list(value[1], 2, 6)
     if value[0] != "c" or len(value) != 3 or not is_number(value[1]) or value[1] >= len(arities):
         return False
     return isinstance(value[2], tuple) and len(value[2]) == arities[value[1]]

@@ -1,8 +1,8 @@
 """Splitting a text into tokens."""
 
 from shapewright.errors import BadText
-from shapewright.lexicon import CAPITAL_LETTERS, DIGITS, MAX_NAME, NAME_CHARACTERS, WORDS
-from shapewright.lexicon import is_integer, is_small
+from shapewright.integers import is_integer
+from shapewright.lexicon import CAPITAL_LETTERS, DIGITS, MAX_NAME, NAME_CHARACTERS, WORDS, is_small
 
 PAIRS = ("=>", "->", ":>", "<=", ">=", "<>", ":=", "::")
 SINGLES = "(),;|=:._*+-@<>~!"

@@ -1,7 +1,7 @@
 """Which values are well-formed trees, and where the parts of a tree stand."""
 
 from shapewright.forms import all_well_formed, kind_of, parts_of
-from shapewright.lexicon import is_list
+from shapewright.integers import is_list
 
 
 def is_shape(tree):

@@ -44,12 +44,17 @@ def head_of(shape):
 def unify(equations):
     """A most general unifier of the equations."""
     graph = Graph()
-    waiting = [(graph.node_of(left), graph.node_of(right)) for left, right in equations]
+    for left, right in equations:
+        equate(graph, left, right)
+    return solution(graph)
+
+
+def equate(graph, left, right):
+    """Merges the nodes of two shapes and all that must be merged then; raises NotUnifiable if they differ."""
+    waiting = [(graph.node_of(left), graph.node_of(right))]
     while waiting:
-        left, right = waiting.pop()
-        waiting.extend(graph.merge(left, right))
-    order = inside_first(graph)
-    return solution(graph, order)
+        first, second = waiting.pop()
+        waiting.extend(graph.merge(first, second))
 
 
 class Graph:
@@ -92,9 +97,8 @@ class Graph:
         left, right = self.root(left), self.root(right)
         if left == right:
             return []
-        if self.is_variable(left):
-            self.above[left] = right
-            return []
+        if self.gives_way(left, right):
+            left, right = right, left
         self.above[right] = left
         if self.is_variable(right):
             return []
@@ -102,16 +106,23 @@ class Graph:
             raise NotUnifiable("two shapes differ")
         return list(zip(self.parts[left], self.parts[right]))
 
+    def gives_way(self, left, right):
+        """Whether the left root is a variable that the right one replaces: of two variables, the older one is kept."""
+        if not self.is_variable(left):
+            return False
+        return not self.is_variable(right) or self.shapes[right][1] < self.shapes[left][1]
+
     def parts_of_class(self, root):
         return [self.root(part) for part in self.parts[root]]
 
 
-def inside_first(graph):
-    """The roots of all classes, each behind those of its parts; raises NotUnifiable if a class contains itself."""
+def inside_first(graph, nodes):
+    """The roots of all classes in the nodes, each behind those of its parts; raises NotUnifiable if a class
+    contains itself."""
     order = []
     begun = {}
     done = {}
-    for node in range(len(graph.shapes)):
+    for node in nodes:
         waiting = [graph.root(node)]
         while waiting:
             root = waiting[-1]
@@ -134,23 +145,34 @@ def parts_to_visit(graph, root, begun, done):
     return parts
 
 
-def solution(graph, order):
+class Built:
+    """The shapes that the classes in some nodes stand for, with their sizes and depths."""
+
+    def __init__(self, graph, nodes):
+        self.sizes = {}
+        self.depths = {}
+        self.shapes = {}
+        for root in inside_first(graph, nodes):
+            parts = graph.parts_of_class(root)
+            self.sizes[root] = 1 + sum(self.sizes[part] for part in parts)
+            self.depths[root] = 1 + max([self.depths[part] for part in parts], default=0)
+            # Parts are shared, so that even a shape that is far too large costs little here.
+            self.shapes[root] = with_parts(graph.shapes[root], [self.shapes[part] for part in parts])
+
+    def shape_of(self, root):
+        """The shape of a class; raises TooLarge if it is beyond the bounds."""
+        if self.sizes[root] > MAX_SIZE or self.depths[root] > MAX_DEPTH:
+            raise TooLarge("a shape of the unifier is too large")
+        return self.shapes[root]
+
+
+def solution(graph):
     """The substitution that the classes stand for."""
-    sizes = {}
-    depths = {}
-    built = {}
-    for root in order:
-        parts = graph.parts_of_class(root)
-        sizes[root] = 1 + sum(sizes[part] for part in parts)
-        depths[root] = 1 + max([depths[part] for part in parts], default=0)
-        # Parts are shared, so that even a shape that is far too large costs little here.
-        built[root] = with_parts(graph.shapes[root], [built[part] for part in parts])
+    built = Built(graph, list(range(len(graph.shapes))))
     mapping = {}
     for number, node in graph.variable_nodes.items():
         root = graph.root(node)
-        if sizes[root] > MAX_SIZE or depths[root] > MAX_DEPTH:
-            raise TooLarge("a shape of the unifier is too large")
+        shape = built.shape_of(root)
         if root != node:
-            mapping[number] = built[root]
+            mapping[number] = shape
     return mapping
-
