@@ -50,24 +50,35 @@ def places_inside(pattern, place):
     return []
 
 
+TAGS = {"constructor": "con", "integer": "int", "exception": "packet"}
+
+
 def choose(graph, value, numbers):
     """The row that a value chooses, with its bindings, or None."""
     node = graph[0]
     while node[0] not in ("leaf", "fail"):
-        _, place, wanted, yes, no = node
-        part = part_at(value, place)
-        if node[0] == "exception":
-            holds = names_exception(wanted, part[1], numbers)
-        else:
-            holds = part[1] == wanted
-        node = graph[yes if holds else no]
+        node = graph[node[3] if holds(node, part_at(value, node[1]), numbers) else node[4]]
     if node[0] == "fail":
         return None
     return node[1], [(name, part_at(value, place)) for name, place in node[2]]
 
 
+def holds(node, part, numbers):
+    """Whether the test of a node holds for the part of the value at its place."""
+    if part is None or part[0] != TAGS[node[0]]:
+        return False
+    if node[0] == "exception":
+        return names_exception(node[2], part[1], numbers)
+    return part[1] == node[2]
+
+
 def part_at(value, place):
-    """The part of a value at a place: an item of a tuple, or the argument of a constructor or a packet."""
+    """The part of a value at a place: an item of a tuple, or the argument of a constructor or a packet. It is None
+    if the value is of another kind and has no such part."""
     for step in place:
-        value = value[3] if step == "argument" else value[1][step]
+        tag = None if value is None else value[0]
+        if step == "argument":
+            value = value[3] if tag in ("con", "packet") else None
+        else:
+            value = value[1][step] if tag == "tuple" and step < len(value[1]) else None
     return value

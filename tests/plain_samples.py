@@ -24,7 +24,9 @@ class Column:
             self.family = {"one": ONE, "list": LIST, "twelve": TWELVE}[self.kind]
             self.parts = [Column(chance, depth - 1) for _ in self.family]
         elif self.kind == "packet":
-            self.parts = [Column(chance, depth - 1) for _ in EXCEPTIONS]
+            # Two expressions have arguments of one kind, so that they may stand for one exception.
+            self.parts = [Column(chance, depth - 1), Column(chance, depth - 1)]
+            self.parts.append(self.parts[0])
         elif self.kind == "bool":
             self.family, self.parts = BOOL, [None, None]
 
