@@ -4,7 +4,7 @@ import importlib
 import inspect
 import unittest
 
-from shapewright.errors import BadText, NotUnifiable
+from shapewright.errors import BadText, NotShaped, NotUnifiable, UnknownName
 
 INTERFACE = {
     "trees": (
@@ -31,6 +31,16 @@ INTERFACE = {
         "right_declaration(context,declaration,derivation) is_expansive(expression)"
     ),
     "names": "check_names(context,phrase)",
+    "infer": "infer_expression(context,expression,*first) infer_declaration(context,declaration,*first)",
+    "plain": (
+        "is_plain(tree,names) is_pattern(tree,names) pattern_variables(pattern) free_variables(tree) size(tree)"
+    ),
+    "matrix": (
+        "fits(pattern,value,numbers) incompatible(first,second) below(first,second) missing(rows) example(rows,k)"
+    ),
+    "choose": "decision_graph(rows) choose(graph,value,numbers)",
+    "levels": "tidy(entries) stamps_of(entries) realize(entries,realization)",
+    "sigs": "elaborate_signature(context,sexp) home(level,stamp)",
 }
 
 
@@ -42,7 +52,8 @@ class Interface(unittest.TestCase):
                 word, arguments = row[:-1].split("(")
                 function = getattr(module, word)
                 self.assertEqual(function.__module__, module.__name__, row)
-                names = list(inspect.signature(function).parameters)
+                parameters = inspect.signature(function).parameters.values()
+                names = ["*" * (parameter.kind == parameter.KEYWORD_ONLY) + parameter.name for parameter in parameters]
                 if arguments.isdigit():
                     self.assertEqual(len(names), int(arguments), row)
                 else:
@@ -115,3 +126,37 @@ class Examples(unittest.TestCase):
         two = ("app", U, ("var", ("f", U, U), (U,)), ("unit", U))
         context = ((("val", "i", (1, ("f", ("v", 0), ("v", 0)))),), ARITIES)
         self.assertIs(right_expression(context, pair, ("tuple", ("t", (I, U)), (one, two))), True)
+
+    def test_infer(self):
+        from shapewright.infer import infer_declaration, infer_expression
+        from shapewright.reader import read_program
+        from shapewright.schemes import close
+        from shapewright.terms import ARITIES, FREE
+
+        x = ("var", ("x",))
+        context = ((), ARITIES)
+        shape, settled, derivation = infer_expression(context, ("fn", ((("pvar", "x"), ("tuple", (x, x))),)))
+        self.assertEqual(close(shape, ()), (1, ("f", ("v", 0), ("t", (("v", 0), ("v", 0))))))
+        self.assertEqual((settled, derivation[0]), ({}, "fn"))
+        with self.assertRaises(NotShaped):
+            infer_expression(context, ("fn", ((("pvar", "x"), ("app", x, x)),)))
+        with self.assertRaises(UnknownName):
+            infer_expression(context, ("fn", ((("pvar", "x"), ("var", ("y",))),)))
+        ref = ("val", "ref", (1, ("f", ("v", 0), ("c", 3, (("v", 0),)))))
+        identity = ("val", "i", (1, ("f", ("v", 0), ("v", 0))))
+        entries, _, settled, _ = infer_declaration(((ref, identity), ARITIES), read_program("val r = ref i")[0])
+        a = entries[0][2][1][2][0][1]
+        self.assertEqual((entries, settled), ((("val", "r", (0, ("c", 3, (("f", a, a),)))),), {}))
+        self.assertGreaterEqual(a[1], FREE)
+        context = ((("shape", "int", 0, ("c", 0, ())),), ARITIES)
+        entries = infer_declaration(context, read_program("rec f : all 'a . 'a -> int = fn x => f (x, x)")[0])[0]
+        self.assertEqual(entries, (("val", "f", (1, ("f", ("v", 0), ("c", 0, ())))),))
+        with self.assertRaises(NotShaped):
+            infer_declaration(context, read_program("rec f = fn x => f (x, x)")[0])
+
+    def test_matrix(self):
+        from shapewright.matrix import example, missing
+
+        booleans = (("False", False), ("True", False))
+        self.assertIsNone(missing([("con", booleans, 0, None), ("con", booleans, 1, None)]))
+        self.assertIsNone(example([("any",), ("int", 4)], 1))

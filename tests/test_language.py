@@ -60,7 +60,7 @@ def functions(tree):
 
 def bound_names(function):
     """The parameters and local variables of a function."""
-    names = [arg.arg for arg in function.args.args]
+    names = [arg.arg for arg in function.args.args + function.args.kwonlyargs]
     for node in ast.walk(function):
         if isinstance(node, ast.Name) and isinstance(node.ctx, ast.Store):
             names.append(node.id)
