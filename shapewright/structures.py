@@ -142,17 +142,18 @@ def elaborate_functor(context, declaration):
     inner = extended((context[0], arities), [("module", parameter_name, parameter[1])])
     level, after, plain, derivations = elaborate_module(inner, body)
     after = cut(after, len(context[0]))
-    check_body(name, len(context[1]), after, level)
+    check_body(name, context, after, level)
     made = tuple([stamp for stamp in stamps_of(level) if stamp >= len(arities)])
     entry = ("functor", name, parameter, made, level)
     lowered = [("let", f"fun {name}", ("fn", f"mod {parameter_name}", plain))]
     return extended(after, [entry]), lowered, derivations
 
 
-def check_body(name, first_inner, after, level):
+def check_body(name, before, after, level):
     """Raises BadModule if the body of a functor leaves one of its stamps in the context, or a weak variable in its
     level that the context does not have."""
-    if any([stamp >= first_inner for stamp in stamps_of(after[0])]):
+    inner = len(before[1])
+    if after[0] != before[0] and any([stamp >= inner for stamp in stamps_of(after[0])]):
         raise BadModule("escape", (name,))
     fixed = free_variables(after[0])
     if any([number not in fixed for number in free_variables(level)]):
