@@ -5,15 +5,21 @@ from shapewright.search import refuting_pattern
 
 def fits(pattern, value, numbers):
     """The bindings of a value that fits, otherwise None."""
+    return bindings_by(pattern, value, lambda part, inner: pairs_inside(part, inner, numbers))
+
+
+def bindings_by(pattern, value, inside):
+    """The bindings of a value that fits, where `inside` gives the list of the pairs of a pattern and a value that must
+    fit for two others to fit. If it gives something else for a pair, this is the result."""
     found = []
     waiting = [(pattern, value)]
     while waiting:
         part, inner = waiting.pop()
         if part[0] in ("var", "as"):
             found.append((part[1], inner))
-        pairs = pairs_inside(part, inner, numbers)
-        if pairs is None:
-            return None
+        pairs = inside(part, inner)
+        if not isinstance(pairs, list):
+            return pairs
         waiting.extend(pairs[::-1])
     return found
 

@@ -1,5 +1,7 @@
 """Trying the rows of a match or a handler on a value."""
 
+from shapewright.matrix import bindings_by
+
 
 def value_of(environment, name):
     """The value of the first binding of a name, or None if there is none."""
@@ -45,17 +47,7 @@ def named_exception(expression, environment):
 
 def fitting(pattern, value, environment):
     """The bindings of a value that fits, None if it does not fit, or the word of the first conflict."""
-    found = []
-    waiting = [(pattern, value)]
-    while waiting:
-        part, inner = waiting.pop()
-        if part[0] in ("var", "as"):
-            found.append((part[1], inner))
-        pairs = pairs_inside(part, inner, environment)
-        if pairs is None or isinstance(pairs, str):
-            return pairs
-        waiting.extend(pairs[::-1])
-    return found
+    return bindings_by(pattern, value, lambda part, inner: pairs_inside(part, inner, environment))
 
 
 def pairs_inside(pattern, value, environment):

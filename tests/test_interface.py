@@ -4,7 +4,7 @@ import importlib
 import inspect
 import unittest
 
-from shapewright.errors import BadText, NotShaped, NotUnifiable, UnknownName
+from shapewright.errors import BadModule, BadText, NotShaped, NotUnifiable, UnknownName
 
 INTERFACE = {
     "trees": (
@@ -41,6 +41,14 @@ INTERFACE = {
     "choose": "decision_graph(rows) choose(graph,value,numbers)",
     "levels": "tidy(entries) stamps_of(entries) realize(entries,realization)",
     "sigs": "elaborate_signature(context,sexp) home(level,stamp)",
+    "matching": "match_level(context,have,want) realizes(have,want,realization)",
+    "structures": "module(context,mexp) declare_all(context,decs)",
+    "lower": (
+        "lower(context,expression) lower_pattern(context,pattern) wrap(lowered,body) record(level) thinned(plain,thin)"
+    ),
+    "values": "wrap(n) equal(first,second) operate(name,operands,store) show(value,store,limit)",
+    "steps": "start(tree) step(state) end(state) run(tree,fuel)",
+    "stuck": "stuck_word(state) match_row(pattern,value,environment)",
 }
 
 
@@ -160,3 +168,33 @@ class Examples(unittest.TestCase):
         booleans = (("False", False), ("True", False))
         self.assertIsNone(missing([("con", booleans, 0, None), ("con", booleans, 1, None)]))
         self.assertIsNone(example([("any",), ("int", 4)], 1))
+
+    def test_structures(self):
+        from shapewright.reader import read_program
+        from shapewright.sigs import elaborate_signature
+        from shapewright.matching import match_level
+        from shapewright.structures import declare_all, module
+        from shapewright.terms import ARITIES
+
+        n = ("v", 0)
+        entries = [("shape", "int", 0, ("c", 0, ())), ("shape", "list", 1, ("c", 5, (n,)))]
+        entries.append(("con", "Nil", 1, None, ("c", 5, (n,)), 0, (("Nil", False), ("Cons", True))))
+        context = (tuple(entries), ARITIES)
+        outside = declare_all(context, read_program("variant q = Q of int list"))[1]
+        sealed = "struct val empty = Q Nil end :> sig shape q val empty : q end"
+        with self.assertRaises(BadModule) as caught:
+            module(outside, read_program(f"module M = {sealed}")[0][2])
+        self.assertEqual((caught.exception.code, caught.exception.path), ("missing", ("q",)))
+        tree = read_program(f"module M = {sealed.replace('struct', 'struct variant q = Q of int list')}")[0][2]
+        level, after, _ = module(context, tree)
+        s = level[0][2][1][1]
+        self.assertEqual(level, (("val", "empty", (0, ("c", s, ()))), ("shape", "q", 0, ("c", s, ()))))
+        self.assertGreaterEqual(s, len(ARITIES))
+        inside, after, _ = module(context, tree[1])
+        want, arities = elaborate_signature(after, tree[2])
+        self.assertEqual(match_level((after[0], arities), inside, want)[2], ("thin", ("empty",), (), ()))
+
+    def test_values(self):
+        from shapewright.values import show
+
+        self.assertEqual(show(("con", 1, "Some", ("int", -3)), (), 20), "Some ~3")
