@@ -201,6 +201,17 @@ class WeakVariables(unittest.TestCase):
         have, want = self.level((0, pair(c(20), A))), self.level((1, pair(G0, INT)))
         self.refused(("x0",), have, want)
         self.refused(("x0",), self.level((0, c(9))), self.level((1, G0)))
+        # 8 is the last stamp of the context; the two that are wanted stand behind it.
+        for shape in (c(7), c(8), c(9), c(10)):
+            self.refused(("x0",), self.level((1, pair(G0, shape))), self.level((2, pair(G0, G1))))
+            self.refused(("x0",), self.level((1, pair(shape, G0))), self.level((2, pair(G0, G1))))
+
+    def test_the_variables_that_stand_for_general_ones_are_new(self):
+        for number in (0, 1, 5):
+            weak = free(number)
+            have = self.level((2, pair(pair(G0, G1), weak)), (0, ref(weak)))
+            want = self.level((0, pair(pair(INT, UNIT), listed(INT))), (0, ref(listed(INT))))
+            self.assertEqual(self.match(have, want), {weak[1]: listed(INT)})
 
 
 class Realizes(unittest.TestCase):
@@ -221,6 +232,25 @@ class Realizes(unittest.TestCase):
         wanted = ((9,), (("shape", "t", 1, c(9, G0)), ("con", "A", 1, None, c(9, G0), 0, (("A", False),))))
         have = (("shape", "t", 1, c(5, listed(G0))), ("con", "A", 1, None, c(5, listed(G0)), 0, (("A", False),)))
         self.assertFalse(realizes(have, wanted, {9: (1, c(5, listed(G0)))}))
+
+    def test_values_that_are_not_general_enough(self):
+        for stamp in (0, 1, 8, 9, 20):
+            have = (("val", "x", (0, c(stamp))),)
+            self.assertTrue(realizes(have, ((), have), {}))
+            self.assertFalse(realizes(have, ((), (("val", "x", (1, G0)),)), {}))
+            for other in (pair(G0, c(stamp)), pair(c(stamp), G0)):
+                self.assertFalse(realizes((("val", "x", (1, other)),), ((), (("val", "x", (2, pair(G0, G1))),)), {}))
+
+    def test_the_arity_is_that_of_the_stamp(self):
+        # The stamp is used inside of other shapes and of modules.
+        wanted = ((8,), (("val", "x", (0, fun(INT, listed(c(8, INT))))), ("module", "S", (("shape", "t", 1, c(8, G0)),))))
+        have = (("val", "x", (0, fun(INT, listed(UNIT)))), ("module", "S", (("shape", "t", 1, UNIT),)))
+        self.assertTrue(realizes(have, wanted, {8: (1, UNIT)}))
+        self.assertFalse(realizes(have, wanted, {8: (0, UNIT)}))
+        self.assertFalse(realizes(have, wanted, {8: (2, UNIT)}))
+        inside = ((8,), wanted[1][1:])
+        self.assertTrue(realizes(have, inside, {8: (1, UNIT)}))
+        self.assertFalse(realizes(have, inside, {8: (0, UNIT)}))
 
     def test_matching_is_reflexive(self):
         for text in ("", "val x = 1 val i = fn y => y", "variant 'a t = A of 'a u and 'a u = B exception E of int alias v = int t", "module S = struct variant t = A val x = A end module T = struct alias t = S.t exception A end val y = S.A"):

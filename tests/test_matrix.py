@@ -33,6 +33,26 @@ def is_bare(pattern):
     return all(part is None or is_bare(part) for part in parts)
 
 
+def agree(first, second):
+    """Whether two patterns can belong to one column."""
+    first, second = said(first), said(second)
+    if first[0] in ("any", "var") or second[0] in ("any", "var"):
+        return True
+    if first[0] != second[0]:
+        return False
+    if first[0] == "tuple":
+        return len(first[1]) == len(second[1]) and all(map(agree, first[1], second[1]))
+    if first[0] == "con" and first[1] != second[1]:
+        return False
+    if first[0] == "int" or first[1:-1] != second[1:-1] or None in (first[-1], second[-1]):
+        return True
+    return agree(first[-1], second[-1])
+
+
+def said(pattern):
+    return said(pattern[2]) if pattern[0] == "as" else pattern
+
+
 ONE_VALUE, TWO_VALUE = ("int", 1), ("int", 2)
 UNIT = ("tuple", ())
 SOME = ("con", 1, "Some", ONE_VALUE)
@@ -116,7 +136,7 @@ class Search(unittest.TestCase):
         if found is not None:
             self.assertTrue(is_bare(found), found)
             self.assertTrue(is_pattern(found, [*NAMES, *expressions_in(found)]), found)
-            self.assertTrue(all(incompatible(found, row) for row in rows), (found, rows))
+            self.assertTrue(all(agree(found, row) and incompatible(found, row) for row in rows), (found, rows))
         return found
 
     def check_example(self, rows, k):
@@ -125,6 +145,7 @@ class Search(unittest.TestCase):
             self.assertTrue(is_bare(found), found)
             self.assertTrue(is_pattern(found, [*NAMES, *expressions_in(found)]), found)
             self.assertTrue(below(found, rows[k]), (found, rows))
+            self.assertTrue(all(agree(found, row) for row in rows), (found, rows))
             self.assertTrue(all(incompatible(found, row) for row in rows[:k]), (found, rows))
         return found
 

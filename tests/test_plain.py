@@ -78,7 +78,7 @@ class Forms(unittest.TestCase):
 
     def test_broken_expressions(self):
         for tree in BROKEN:
-            self.assertIs(is_plain(tree, ["x", "y"]), False, tree)
+            self.assertIs(is_plain(tree, ["x", "y", *NOT_NAMES]), False, tree)
             for whole in around(tree):
                 if whole != ("packet", ONE, None):
                     self.assertIs(is_plain(whole, ["x", "y"]), False, whole)
@@ -92,7 +92,7 @@ class Forms(unittest.TestCase):
 
     def test_broken_patterns(self):
         for pattern in BROKEN_PATTERNS:
-            self.assertIs(is_pattern(pattern, ["x"]), False, pattern)
+            self.assertIs(is_pattern(pattern, ["x", *NOT_NAMES]), False, pattern)
             for whole in (("tuple", (("any",), pattern)), ("con", OPTION, 1, pattern), ("packet", ("var", "x"), pattern), ("as", "w", pattern)):
                 if pattern is not None or whole[0] != "packet":
                     self.assertIs(is_pattern(whole, ["x"]), False, whole)
