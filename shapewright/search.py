@@ -79,12 +79,8 @@ class Places:
         if wanted[0] == "int":
             return wanted
         has_argument = wanted[1][wanted[2]][1] if wanted[0] == "con" else not wanted[2]
-        argument = self.argument_for(place, key, chosen) if has_argument else None
-        return (*wanted[:3], argument) if wanted[0] == "con" else (*wanted[:2], argument)
-
-    def argument_for(self, place, key, chosen):
-        step = (place, "argument", key)
-        return self.pattern_for(self.numbers[step], chosen) if step in self.numbers else ("any",)
+        argument = self.pattern_for(self.numbers[place, "argument", key], chosen) if has_argument else None
+        return (*wanted, argument) if wanted[0] == "con" else (*wanted[:2], argument)
 
     def other_pattern(self, place):
         """A pattern for what no row asks for at the place."""

@@ -163,7 +163,7 @@ class Search(unittest.TestCase):
         for rows in (
             [true], [none], [some(ANY)], [("int", 0)], [("int", n) for n in range(12)], [("int", n) for n in range(-6, 6)], [("packet", A, ANY)], [("packet", e, ANY if e != B else None) for e in EXCEPTIONS], [pair(true, ANY)], [pair(true, true), pair(ANY, ("con", BOOL, 0, None))],
             [none, some(true)], [("con", TWELVE, k, ANY if TWELVE[k][1] else None) for k in range(11)], [("con", ONE, 0, ("int", 3))], [("con", ONE, 0, ("packet", A, ("tuple", ())))], [pair(X, ("int", 3)), pair(("int", 3), Y)],
-            [("packet", ("var", "other 0"), None), ("packet", ("var", "other 1"), None)], [("packet", A, ("int", 1))], [("as", "x", true)], [("tuple", (true, ANY, ANY)), ("tuple", (ANY, true, ANY)), ("tuple", (ANY, ANY, true))],
+            [("packet", ("var", "other 0"), None), ("packet", ("var", "other 1"), None)], [("packet", ("var", "other 1"), None)], [("packet", ("var", "other 2"), None), ("packet", ("var", "other 0"), None)], [("packet", A, ("int", 1))], [("as", "x", true)], [("tuple", (true, ANY, ANY)), ("tuple", (ANY, true, ANY)), ("tuple", (ANY, ANY, true))],
         ):
             self.assertIsNotNone(self.check_missing(rows), rows)
         self.assertEqual(missing([]), ("any",))
