@@ -49,6 +49,15 @@ INTERFACE = {
     "values": "wrap(n) equal(first,second) operate(name,operands,store) show(value,store,limit)",
     "steps": "start(tree) step(state) end(state) run(tree,fuel)",
     "stuck": "stuck_word(state) match_row(pattern,value,environment)",
+    "instructions": "operands(name) is_instruction(value)",
+    "checker": "check(program)",
+    "compiler": "compile_tree(tree)",
+    "runner": "run_program(program,fuel)",
+    "collector": "reachable(words,roots) collect(words,roots)",
+}
+# The classes with their methods; the arguments of a class are those of its `__init__`.
+CLASSES = {
+    "heap.Heap(cells)": "fits(n) make(kind,a,b,fields) header(word) field(word,i) store_field(word,i,value)",
 }
 
 
@@ -66,6 +75,21 @@ class Interface(unittest.TestCase):
                     self.assertEqual(len(names), int(arguments), row)
                 else:
                     self.assertEqual(names, arguments.split(","), row)
+
+
+    def test_every_class_defines_its_methods_with_their_arguments(self):
+        for row, methods in CLASSES.items():
+            path, arguments = row[:-1].split("(")
+            name, word = path.split(".")
+            module = importlib.import_module(f"shapewright.{name}")
+            kind = getattr(module, word)
+            self.assertEqual(kind.__module__, module.__name__, row)
+            self.assertEqual(list(inspect.signature(kind).parameters), arguments.split(",") if arguments else [], row)
+            for method in methods.split():
+                told, arguments = method[:-1].split("(")
+                self.assertIn(told, vars(kind), row)
+                parameters = list(inspect.signature(vars(kind)[told]).parameters)
+                self.assertEqual(parameters, ["self", *(arguments.split(",") if arguments else [])], (row, method))
 
 
 class Examples(unittest.TestCase):
@@ -193,6 +217,12 @@ class Examples(unittest.TestCase):
         inside, after, _ = module(context, tree[1])
         want, arities = elaborate_signature(after, tree[2])
         self.assertEqual(match_level((after[0], arities), inside, want)[2], ("thin", ("empty",), (), ()))
+
+    def test_checker(self):
+        from shapewright.checker import check
+
+        self.assertIsNone(check((("main", 0, 1, (("int", 1), ("return",))),)))
+        self.assertEqual(check((("main", 0, 1, (("drop",), ("return",))),)), (0, 0, "depth"))
 
     def test_values(self):
         from shapewright.values import show

@@ -222,6 +222,14 @@ class Code(unittest.TestCase):
                     measured = isinstance(parent, ast.Call) and isinstance(parent.func, ast.Name) and parent.func.id in ("len", "sorted")
                     self.assertTrue(measured or isinstance(parent, ast.Compare), (name, node.lineno))
 
+    def test_stars_in_calls(self):
+        for name, tree in TREES.items():
+            for node in ast.walk(tree):
+                if isinstance(node, ast.Call):
+                    stars = [part.value for part in node.args if isinstance(part, ast.Starred)]
+                    stars += [keyword.value for keyword in node.keywords if keyword.arg is None]
+                    self.assertTrue(all(isinstance(part, (ast.Name, ast.List, ast.Tuple)) for part in stars), (name, node.lineno))
+
     def test_keywords_of_builtins(self):
         allowed = {"sorted": {"key", "reverse"}, "min": {"key", "default"}, "max": {"key", "default"}, "sum": {"start"},
                    "enumerate": {"start"}, "zip": {"strict"}}
