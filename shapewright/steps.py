@@ -27,7 +27,11 @@ def end(state):
 
 def run(tree, fuel):
     """Makes at most so many steps; returns the end, the last state and the number of steps made."""
-    state = start(tree)
+    return run_from(start(tree), fuel)
+
+
+def run_from(state, fuel):
+    """Makes at most so many steps from a state."""
     for count in range(fuel):
         if has_ended(state):
             return end(state), state, count

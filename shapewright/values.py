@@ -19,11 +19,17 @@ def wrap(n):
 
 
 def equal(first, second):
-    """Whether two values are equal; None if that is not said of such values. Values may be deeper than the calls of
+    """Whether two values are equal; None if that is not said of such values."""
+    return equal_by(first, second, lambda value: value)
+
+
+def equal_by(first, second, look):
+    """Whether two values are equal, where `look` gives the outside of a value. Values may be deeper than the calls of
     Python can be nested."""
     waiting = [(first, second)]
     while waiting:
         left, right = waiting.pop()
+        left, right = look(left), look(right)
         result = equal_outside(left, right)
         if result is not True:
             return result
@@ -114,6 +120,11 @@ def computed(name, numbers):
 
 def show(value, store, limit):
     """The written form of a value, of which only so many parts are written out."""
+    return show_by(value, limit, lambda part: part, lambda place: store[place])
+
+
+def show_by(value, limit, look, held):
+    """The written form of a value, where `look` gives the outside of a value, and `held` the value at a place."""
     written = []
     count = 0
     waiting = [("whole", value)]
@@ -125,7 +136,8 @@ def show(value, store, limit):
             written.append("..")
         else:
             count += 1
-            pieces = pieces_of(part, store)
+            part = look(part)
+            pieces = pieces_of(part, held)
             if word == "argument" and needs_parentheses(part):
                 pieces = [("text", "("), *pieces, ("text", ")")]
             waiting.extend(pieces[::-1])
@@ -137,7 +149,7 @@ def needs_parentheses(value):
     return value[0] == "ref" or (value[0] in ("con", "packet") and value[3] is not None)
 
 
-def pieces_of(value, store):
+def pieces_of(value, held):
     """The texts and parts of which the written form of a value is made, from the left."""
     tag = value[0]
     if tag == "int":
@@ -148,7 +160,7 @@ def pieces_of(value, store):
         fields = [[("text", f"{label} = "), ("whole", part)] for label, part in value[1]]
         return [("text", "{"), *separated(fields), ("text", "}")]
     if tag == "ref":
-        return [("text", "ref "), ("argument", store[value[1]])]
+        return [("text", "ref "), ("argument", held(value[1]))]
     if tag == "exn":
         return [("text", value[2])]
     if tag not in ("con", "packet"):

@@ -4,7 +4,7 @@ import importlib
 import inspect
 import unittest
 
-from shapewright.errors import BadModule, BadText, NotShaped, NotUnifiable, UnknownName
+from shapewright.errors import BadModule, BadText, NotShaped, NotUnifiable, UnknownName, Weak
 
 INTERFACE = {
     "trees": (
@@ -54,10 +54,16 @@ INTERFACE = {
     "compiler": "compile_tree(tree)",
     "runner": "run_program(program,fuel)",
     "collector": "reachable(words,roots) collect(words,roots)",
+    "engine": "run_machine(program,cells,fuel,every) room(program,fuel)",
+    "report": "shape_text(names,shape) report(entries,names)",
+    "agreement": "agrees(entries,shape,value,store,depth) agrees_with_level(entries,level,value,store,depth)",
+    "whole": "check_program(program) prepare(plain) execute(plain,cells,fuel,every) run_text(text,cells,fuel)",
 }
 # The classes with their methods; the arguments of a class are those of its `__init__`.
 CLASSES = {
     "heap.Heap(cells)": "fits(n) make(kind,a,b,fields) header(word) field(word,i) store_field(word,i,value)",
+    "engine.Machine(program,cells)": "step() collect() end() output() used() frames()",
+    "session.Session()": "enter(program,fuel) weak_names() context() output() lines()",
 }
 
 
@@ -223,6 +229,25 @@ class Examples(unittest.TestCase):
 
         self.assertIsNone(check((("main", 0, 1, (("int", 1), ("return",))),)))
         self.assertEqual(check((("main", 0, 1, (("drop",), ("return",))),)), (0, 0, "depth"))
+
+    def test_whole(self):
+        from shapewright.whole import run_text
+
+        text = "val twice = fn f => fn x => f (f x) val n = twice (fn x => x * 3) 5"
+        lines = ["val twice : ('a -> 'a) -> 'a -> 'a", "val n : int"]
+        self.assertEqual(run_text(text, 1000, 10000), (lines, ("value", "{val n = 45, val twice = fn}"), ()))
+        with self.assertRaises(Weak):
+            run_text("val r = ref Nil", 1000, 10000)
+
+    def test_session(self):
+        from shapewright.reader import read_program
+        from shapewright.session import Session
+
+        s = Session()
+        first = s.enter(read_program("val r = ref Nil"), 1000)
+        self.assertEqual(first, (["val r : '_1 list ref"], ("value", "{val r = ref Nil}")))
+        second = s.enter(read_program("val u = r := 7 :: Nil val v = !r"), 1000)
+        self.assertEqual(second, (["val u : unit", "val v : int list"], ("value", "{val u = (), val v = Cons (7, Nil)}")))
 
     def test_values(self):
         from shapewright.values import show
