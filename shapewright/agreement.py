@@ -8,6 +8,8 @@ INT_STAMP = 0
 UNIT_STAMP = 1
 EXN_STAMP = 2
 REF_STAMP = 3
+# For each word of a label, the tag of the entries to which it belongs.
+TAGS = {"val": "val", "exn": "exn", "mod": "module", "fun": "functor"}
 
 
 def agrees(entries, shape, value, store, depth):
@@ -93,9 +95,6 @@ def agrees_with_level(entries, level, value, store, depth):
         if not field_agrees(entries, members[TAGS[word], name], part, store, depth):
             return False
     return True
-
-
-TAGS = {"val": "val", "exn": "exn", "mod": "module", "fun": "functor"}
 
 
 def field_agrees(entries, entry, value, store, depth):

@@ -189,7 +189,6 @@ def handle_tasks(maker, tree, spot):
 
 def chosen_tasks(assembly, rows, spot, done, failed):
     """The tasks that pop a value, try the rows on it and go on at the label `done`; `failed` comes behind the rows."""
-    assembly.reserve(spot[1] + 1)
     tasks = [("emit", ("store", spot[1]))]
     for pattern, body in rows:
         after = assembly.new_label()

@@ -10,7 +10,7 @@ class Cursor:
 
     def __init__(self, tokens, end):
         self.tokens = tokens
-        self.end = end
+        self.text_end = end
         self.next_index = 0
 
     def sign_at(self, index):
@@ -26,10 +26,10 @@ class Cursor:
     def second_sign(self):
         return self.sign_at(self.next_index + 1)
 
-    def place(self):
+    def position(self):
         """The index of the next token's first character, or the length of the text at its end."""
         if self.next_index >= len(self.tokens):
-            return self.end
+            return self.text_end
         return self.tokens[self.next_index][2]
 
     def take(self):
@@ -41,7 +41,7 @@ class Cursor:
     def expect(self, sign):
         """Passes a token that must have this sign, and returns its value."""
         if self.sign() != sign:
-            raise BadText(self.place())
+            raise BadText(self.position())
         return self.take()
 
     def passes(self, sign):
@@ -53,4 +53,4 @@ class Cursor:
 
     def expect_end(self):
         if self.next_index < len(self.tokens):
-            raise BadText(self.place())
+            raise BadText(self.position())

@@ -118,7 +118,7 @@ def take_atom(cursor):
         return take_let(cursor)
     if sign == "(":
         return take_in_parentheses(cursor)
-    raise BadText(cursor.place())
+    raise BadText(cursor.position())
 
 
 def take_long_name(cursor):

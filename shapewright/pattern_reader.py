@@ -16,7 +16,7 @@ def take_name(cursor):
     if not cursor.passes("("):
         return cursor.expect("SMALL")
     if cursor.sign() not in OPERATORS:
-        raise BadText(cursor.place())
+        raise BadText(cursor.position())
     name = cursor.take()
     cursor.expect(")")
     return name

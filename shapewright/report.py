@@ -14,7 +14,7 @@ class Namer:
         self.names = names
         self.paths = {}
 
-    def path(self, stamp):
+    def named(self, stamp):
         """The path that is the name of a stamp, or None."""
         if stamp not in self.paths:
             self.paths[stamp] = self.first_path(self.names, stamp, ())
@@ -55,7 +55,7 @@ def written(namer, shape, free):
         return f"{left} -> {written(namer, shape[2], free)}"
     if tag == "t":
         return " * ".join([in_parentheses(namer, part, free, ("f", "t")) for part in shape[1]])
-    path = namer.path(shape[1])
+    path = namer.named(shape[1])
     name = f"?{shape[1]}" if path is None else ".".join(path)
     if len(shape[2]) == 0:
         return name
@@ -129,7 +129,7 @@ def shape_line(namer, entry, front):
     _, name, count, shape = entry
     head = f"{parameters_text(count)}{name}"
     stamp = named_stamp(entry)
-    if stamp is not None and namer.path(stamp) == (*front, name):
+    if stamp is not None and namer.named(stamp) == (*front, name):
         return f"shape {head}"
     return f"alias {head} = {text_of(namer, shape)}"
 

@@ -57,7 +57,7 @@ class PlainTrees:
             return ("var", self.random.choice(sorted(known)))
         if deep <= 0:
             return self.value(kind, scope, deep)
-        forms = ["value"] * 4 + ["app", "let", "rec", "match", "handle", "field", "fetch", "raise"]
+        forms = ["value"] * 4 + ["app", "let", "rec", "match", "handle", "guarded", "field", "fetch", "raise"]
         if kind == "int":
             forms += ["arithmetic"] * 3
         if kind == BOOL_KIND:
@@ -125,6 +125,19 @@ class PlainTrees:
 
     def handle(self, kind, scope, deep):
         return ("handle", self.expression(kind, scope, deep), self.rows("packet", kind, scope, deep))
+
+    def guarded(self, kind, scope, deep):
+        """A packet of a new exception, or of an earlier one, is raised or passed on, and rows ask for it."""
+        argument = self.random.choice([None, "int"])
+        names = {self.name("e"): ("exn", argument), **({"f9": ("exn", None)} if self.random.random() < 0.5 else {})}
+        inner = {**scope, **names}
+        if self.random.random() < 0.5:
+            tree = ("handle", self.expression(kind, inner, deep), self.rows("packet", kind, inner, deep))
+        else:
+            tree = ("match", self.expression("packet", inner, deep), self.rows("packet", kind, inner, deep), "Match")
+        for name in names:
+            tree = ("let", name, self.value(names[name], scope, deep), tree)
+        return tree
 
     def pattern(self, kind, scope, bound, deep):
         roll = self.random.random()

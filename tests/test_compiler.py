@@ -144,6 +144,10 @@ class Compiled(unittest.TestCase):
         for which, text in ((X, "1"), (("field", "e", Y), "2"), (("fixed", 0), "3")):
             body = match(("packet", which, None), (("packet", X, None), ONE), (("packet", ("field", "e", Y), None), TWO), (("any",), ("int", 3)))
             self.shows(text, (*exceptions[:3], (*exceptions[3][:3], body)))
+        nested = ("record", (("m", ("record", (("n", ("record", (("e", X),))),))),))
+        named = ("field", "e", ("field", "n", ("field", "m", Y)))
+        self.shows("1", ("let", "x", ("exception", "E"), ("let", "y", nested, match(("packet", X, None), (("packet", named, None), ONE), (("any",), TWO)))))
+        self.shows("2", ("let", "x", ("exception", "E"), ("let", "y", nested, match(("packet", ("fixed", 1), None), (("packet", named, None), ONE), (("any",), TWO)))))
         body = match(("packet", X, TWO), (("packet", X, ("int", 1)), ONE), (("packet", X, ("var", "z")), ("var", "z")))
         self.shows("2", ("let", "x", ("exception", "E"), body))
 

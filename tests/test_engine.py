@@ -2,9 +2,12 @@
 
 import random
 import unittest
+from unittest import mock
 
+import test_runner
 from heaps import beginnings, graph
 from plain_trees import BOOL, LIST, plain_trees
+from shapewright import engine
 from shapewright.checker import check
 from shapewright.collector import reachable
 from shapewright.compiler import compile_tree
@@ -108,7 +111,8 @@ class Blocks(unittest.TestCase):
         siblings = [function(("sibling", 2), RETURN, captured=2), function(("captured", 1), ("captured", 0), ("tuple", 2), RETURN, captured=2)]
         program = (main(ONE, TWO, ("closure", 1), ("int", 0), ("call",), ("int", 0), ("call",), RETURN), *siblings)
         self.assertEqual(run_machine(program, 1000, 100, 0), (("value", "(2, 1)"), ()))
-        self.assertEqual(stepped(program, 1000, 6).used(), 12)
+        machine = stepped(program, 1000, 6)
+        self.assertEqual(machine.heap.words, [3, 1, 0, 2, 4, 8, 3, 2, 0, 2, 4, 8])
         self.assertEqual(room(program, 6), 12)
         self.assertEqual(run_machine(program, room(program, 100), 100, 1), (("value", "(2, 1)"), ()))
 
@@ -153,6 +157,25 @@ class Blocks(unittest.TestCase):
         machine = stepped(program, 100, 5)
         self.assertEqual(machine.heap.words, [0, 0, 0, 4, -12, 3, 4 * (16 * 6 + 11) + 2, 4 * 16 * 4 + 2])
         self.assertEqual(run_machine(program, 100, 100, 0)[0], ("value", "(~3, (), A, False)"))
+
+
+class TheSameAsTheRunner(test_runner.Runs):
+    """All programs of the tests of the runner, on the machine."""
+
+    def run_all(self, functions, fuel=1000):
+        result = super().run_all(functions, fuel)
+        for every in (0, 1, 3):
+            self.assertEqual(run_machine(functions, 2000000, fuel, every if fuel < 10000 else 0), told(functions, fuel))
+        if fuel < 10000:
+            need = room(functions, fuel)
+            self.assertEqual(run_machine(functions, need, fuel, 0), told(functions, fuel))
+            if need:
+                self.assertEqual(run_machine(functions, need - 1, fuel, 0)[0], FULL)
+        return result
+
+    def test_what_does_not_exist(self):
+        for program in ((main(("drop",)),), (main(ONE),), (main(("slot", 1)),), (main(("captured", 0)),), (main(("closure", 1)),), (main(("end",)),)):
+            self.assertEqual(run_machine(program, 100, 100, 0), (("stuck", "broken"), ()))
 
 
 class Ends(unittest.TestCase):
@@ -327,6 +350,22 @@ class Collections(unittest.TestCase):
         self.assertEqual(room((main(*code),), 100), 11)
         self.assertEqual(run_machine((main(*code),), 11, 100, 1), (("value", "1"), ()))
         self.assertEqual(run_machine((main(*code),), 10, 100, 1), (FULL, ()))
+
+    def test_when_collections_are_made(self):
+        """Also where nothing else can be told of it: a collection leaves only the words that can be reached."""
+        program = (main(*[step for _ in range(6) for step in (ONE, ("prim", "ref"), ("drop",))], ONE, RETURN),)
+        collected = []
+
+        class Counted(Machine):
+            def collect(self):
+                collected.append(self.used())
+                Machine.collect(self)
+
+        for every, expected in ((0, []), (1, [0] + [0, 5, 5] * 6 + [0]), (5, [5, 10, 10, 10]), (20, [30]), (21, [])):
+            collected.clear()
+            with mock.patch.object(engine, "Machine", Counted):
+                run_machine(program, 1000, 100, every)
+            self.assertEqual(collected, expected, every)
 
     def test_a_collection_makes_room(self):
         code = (*[step for _ in range(9) for step in (ONE, ("prim", "ref"), ("drop",))], TWO, RETURN)

@@ -222,6 +222,16 @@ class Code(unittest.TestCase):
                     measured = isinstance(parent, ast.Call) and isinstance(parent.func, ast.Name) and parent.func.id in ("len", "sorted")
                     self.assertTrue(measured or isinstance(parent, ast.Compare), (name, node.lineno))
 
+    def test_no_name_is_a_method_and_an_attribute(self):
+        methods, attributes = set(), set()
+        for tree in TREES.values():
+            for node in ast.walk(tree):
+                if isinstance(node, ast.ClassDef):
+                    methods.update(part.name for part in node.body if isinstance(part, ast.FunctionDef))
+                if isinstance(node, ast.Attribute) and isinstance(node.ctx, ast.Store):
+                    attributes.add(node.attr)
+        self.assertEqual(methods & attributes, set())
+
     def test_stars_in_calls(self):
         for name, tree in TREES.items():
             for node in ast.walk(tree):

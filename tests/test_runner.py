@@ -5,6 +5,7 @@ import unittest
 from plain_trees import plain_trees
 from shapewright.checker import check
 from shapewright.compiler import compile_tree
+from shapewright.instructions import JUMPS
 from shapewright.runner import run_program
 
 RETURN = ("return",)
@@ -29,6 +30,11 @@ RAISE_MATCH = (("fixed", 0), ("packet", False), ("raise",))
 TWO_WAYS = (n(1), RETURN, n(2), RETURN)
 
 
+def shifted(instruction):
+    """The instruction in a code in which everything stands one place further behind."""
+    return (*instruction[:-1], instruction[-1] + 1) if instruction[0] in JUMPS else instruction
+
+
 class Runs(unittest.TestCase):
     def run_all(self, functions, fuel=1000):
         self.assertIsNone(check(functions), functions)
@@ -39,6 +45,9 @@ class Runs(unittest.TestCase):
         end, output, store, count = self.run_all((main(*code, RETURN, slots=slots), *functions))
         self.assertEqual((end, output, store), (("value", value), (), ()))
         self.assertEqual(count, len(code) + 1 if used is None else used)
+        # The same with an operand below, which stays alone there.
+        below = (n(99), *[shifted(one) for one in code], ("tuple", 2), RETURN)
+        self.assertEqual(self.run_all((main(*below, slots=slots), *functions))[0], ("value", ("tuple", (n(99), value))))
 
     def is_stuck(self, *code, functions=(), output=(), after=None):
         """The last instruction is the one at which the machine is stuck."""
@@ -179,6 +188,11 @@ class Runs(unittest.TestCase):
         self.assertEqual(self.run_all((main(("closure", 1), ("closure", 1), ("prim", "equal"), RETURN), function(("slot", 0), RETURN)))[:3], equality)
         code = (n(1), ("try", 6), n(1), n(0), ("prim", "div"), ("end",), ("tuple", 2), RETURN)
         self.assertEqual(self.run_all((main(*code),))[0], ("value", ("tuple", (n(1), ("packet", 2, "Div", None)))))
+
+        below = (n(7), n(1), ("prim", "ref"), n(2), ("prim", "assign"), ("tuple", 2), RETURN)
+        self.assertEqual(self.run_all((main(*below),)), (("value", ("tuple", (n(7), UNIT))), (), (n(2),), 7))
+        below = (n(7), n(1), ("prim", "print"), ("tuple", 2), n(3), ("prim", "ref"), ("prim", "fetch"), ("tuple", 2), RETURN)
+        self.assertEqual(self.run_all((main(*below),)), (("value", ("tuple", (("tuple", (n(7), UNIT)), n(3)))), (1,), (n(3),), 9))
 
     def test_store_and_output(self):
         code = (n(1), ("prim", "ref"), ("store", 0), n(2), ("prim", "ref"), ("store", 1), ("slot", 0), ("prim", "fetch"), ("prim", "print"), ("drop",),

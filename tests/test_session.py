@@ -232,6 +232,15 @@ class Sessions(unittest.TestCase):
                 check_program(read_program(text))
             talk.enter(text)
 
+    def test_the_text_is_cut_at_the_hundredth_part(self):
+        talk = Talk(self)
+        talk.enter("rec count = fn 0 => Nil | n => n :: count (n - 1) exception E of int list")
+        for text, front in (("val l = count 200", "{val l = Cons (200, "), ("val l : int = raise E (count 200)", "E (Cons (200, ")):
+            end = talk.enter(text, 100000)[1]
+            self.assertTrue(end[1].startswith(front) and ", ..)" in end[1], end)
+            # The record or the packet, 33 constructors with their pairs and integers; then the limit is reached.
+            self.assertEqual((end[1].count("Cons"), end[1].count("..")), (33, 1))
+
     def test_sessions_do_not_share_anything(self):
         first, second = Session(), Session()
         first.enter(read_program("val x = print 1 val r = ref 1"), 100)
