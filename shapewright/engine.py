@@ -7,19 +7,23 @@ from shapewright.heap import Heap
 from shapewright.numbering import numbered_labels, numbered_names
 from shapewright.values import UNIT, equal_by, show_by
 from shapewright.words import (
-    CLOSURE, CONSTRUCTOR, EXCEPTION, PACKET, RECORD, TUPLE, UNIT_WORD, address_of, constructor_of,
+    CLOSURE, CONSTRUCTOR, EXCEPTION, HEADER, PACKET, RECORD, TUPLE, UNIT_WORD, address_of, constructor_of,
     integer_of, names_block, names_constructor, names_integer, word_of_block, word_of_constructor, word_of_integer,
 )
 
 SHOWN_PARTS = 100
 # The header that is told for words that name no block.
 NO_HEADER = (None, None, None, 0)
-FIRST_ROOM = 64
+# While the room of a program is looked for, the heap has at first an eighth more cells than are known to be needed.
+FIRST_PART = 8
+FINER = 32
 
 
 class Machine:
     """A run of a program on a heap with so many cells. The last frame of `calls` runs; `names` and `labels` are the
-    numbers of names and of tuples of labels, `name_list` and `label_list` the names and labels with these numbers."""
+    numbers of names and of tuples of labels, `name_list` and `label_list` the names and labels with these numbers.
+    Unless `part` is None, the heap grows where it would be full, so that it is not collected for each single block;
+    `needed` is then the greatest number of cells that were needed."""
 
     def __init__(self, program, cells):
         self.program = program
@@ -32,6 +36,8 @@ class Machine:
         self.made = 4
         self.printed = []
         self.ending = None
+        self.part = None
+        self.needed = 0
 
     def step(self):
         """Carries out one instruction if there is no end."""
@@ -84,7 +90,14 @@ class Machine:
         """Whether a block with so many fields fits, after a collection if it does not fit before."""
         if not self.heap.fits(count):
             self.collect()
+        if not self.heap.fits(count) and self.part is not None:
+            self.grow_for(count)
         return self.heap.fits(count)
+
+    def grow_for(self, count):
+        """Notes how many cells are needed for a block with so many fields, and gets a part of them more."""
+        self.needed = len(self.heap.words) + HEADER + count
+        self.heap.cells = self.needed + self.needed // self.part
 
     def make(self, header, fields):
         """The word of a new block; the header has its first three words."""
@@ -174,19 +187,23 @@ def run_machine(program, cells, fuel, every):
     return ("fuel",) if end is None else end, machine.output()
 
 
-def is_full(program, cells, fuel):
-    return run_machine(program, cells, fuel, 0)[0] == (FULL,)
+def known_need(program, fuel, needed, part):
+    """A number of cells that a run needs, at least `needed`. It is the least one if no part of it is added."""
+    machine = Machine(program, needed + needed // part)
+    machine.needed = needed
+    machine.part = part
+    for _ in range(fuel):
+        if machine.end() is not None:
+            break
+        machine.step()
+    return machine.needed
 
 
 def room(program, fuel):
     """The least number of cells with which a run of at most so many instructions does not find the heap full."""
-    low, high = 0, FIRST_ROOM
-    while is_full(program, high, fuel):
-        low, high = high + 1, 2 * high
-    while low < high:
-        middle = (low + high) // 2
-        if is_full(program, middle, fuel):
-            low = middle + 1
-        else:
-            high = middle
-    return high
+    part = FIRST_PART
+    needed = known_need(program, fuel, 0, part)
+    while needed // part > 0:
+        part = part * FINER
+        needed = known_need(program, fuel, needed, part)
+    return needed

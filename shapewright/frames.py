@@ -4,7 +4,8 @@ from shapewright.instructions import missing_index, popped
 
 
 class Frame:
-    """The function, the captured values, the slots, the place of the next instruction, operands and handlers."""
+    """The function, the captured values (in the machine with the heap, the word of the closure that has them), the
+    slots, the place of the next instruction, operands and handlers."""
 
     def __init__(self, function, captured, argument, unit):
         self.function = function

@@ -54,7 +54,9 @@ class Session:
             self.environment = bound(self.environment, fields)
         else:
             self.known = (context[0][:len(self.known[0])], context[1])
-        return lines, (end[0], show(end[1], self.store, SHOWN_PARTS)) if len(end) == 2 else end
+        if end[0] != "fuel":
+            end = (end[0], show(end[1], self.store, SHOWN_PARTS))
+        return lines, end
 
     def weak_names(self):
         """The names of the entries with free variables."""
