@@ -14,9 +14,9 @@ from shapewright.words import (
 SHOWN_PARTS = 100
 # The header that is told for words that name no block.
 NO_HEADER = (None, None, None, 0)
-# While the room of a program is looked for, the heap has at first an eighth more cells than are known to be needed.
-FIRST_PART = 8
-FINER = 32
+# While the room of a program is looked for, the heap has at first half as many cells more as are known to be needed.
+FIRST_PART = 2
+FINER = 16
 
 
 class Machine:

@@ -267,7 +267,7 @@ class Ends(unittest.TestCase):
 class Collections(unittest.TestCase):
     def test_the_machine_ends_as_the_runner_does(self):
         ends = {}
-        for seed, tree in enumerate(plain_trees(300, 5)):
+        for seed, tree in enumerate(plain_trees(160, 5)):
             chance = random.Random(seed)
             program = compile_tree(tree)
             for fuel in (100000, chance.randrange(200)):
@@ -280,7 +280,7 @@ class Collections(unittest.TestCase):
                     if need:
                         end, output = run_machine(program, chance.randrange(need), fuel, every)
                         self.assertEqual((end, output), (FULL, expected[1][:len(output)]))
-        self.assertGreater(min(ends.values()), 20, ends)
+        self.assertGreater(min(ends.values()), 8, ends)
 
     def test_programs_that_are_accepted_run_as_with_the_runner(self):
         chance = random.Random(9)
@@ -390,7 +390,7 @@ class Room(unittest.TestCase):
             self.assertEqual(room(program, 100000), most)
 
     def test_more_cells_are_never_full_earlier(self):
-        for tree in plain_trees(40, 5, start=500):
+        for tree in plain_trees(25, 5, start=500):
             program = compile_tree(tree)
             need = room(program, 100000)
             last = -1
@@ -409,13 +409,15 @@ class Room(unittest.TestCase):
         self.assertEqual(room((main(ONE, RETURN),), 100), 0)
 
     def test_room_has_no_upper_bound(self):
-        grow = ("rec", (("f", "x", call("f", ("con", LIST, 1, ("tuple", (ONE, X))))),), call("f", ("con", LIST, 0, None)))
-        program = compile_tree(grow)
-        needs = [room(program, fuel) for fuel in (100, 1000, 60000)]
+        more = X
+        for _ in range(100):
+            more = ("con", LIST, 1, more)
+        program = compile_tree(("rec", (("f", "x", call("f", more)),), call("f", ONE)))
+        needs = [room(program, fuel) for fuel in (100, 1000, 22000)]
         self.assertEqual(needs, sorted(needs))
         self.assertGreater(needs[2], 100000)
-        self.assertEqual(run_machine(program, needs[2], 60000, 0)[0], ("fuel",))
-        self.assertEqual(run_machine(program, needs[2] - 1, 60000, 0)[0], FULL)
+        self.assertEqual(run_machine(program, needs[2], 22000, 0)[0], ("fuel",))
+        self.assertEqual(run_machine(program, needs[2] - 1, 22000, 0)[0], FULL)
 
 
 class Loops(unittest.TestCase):

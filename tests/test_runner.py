@@ -194,6 +194,40 @@ class Runs(unittest.TestCase):
         below = (n(7), n(1), ("prim", "print"), ("tuple", 2), n(3), ("prim", "ref"), ("prim", "fetch"), ("tuple", 2), RETURN)
         self.assertEqual(self.run_all((main(*below),)), (("value", ("tuple", (("tuple", (n(7), UNIT)), n(3)))), (1,), (n(3),), 9))
 
+    def test_every_other_kind_of_value(self):
+        """Each instruction that looks at a value, with values of all kinds that have as many parts as it needs."""
+        three = (n(4), n(5), n(6))
+        values = {
+            "int": (n(0),), "unit": (("tuple", 0),), "tuple": (*three, ("tuple", 3)), "record": (*three, ("record", ("a", "b", "c"))), "con": (("con", 0, "A"),),
+            "wrap": (n(4), ("wrap", 0, "A")), "closure": (*three, ("closure", 1)), "exception": (("fixed", 0),), "packet": (("fixed", 0), ("packet", False)),
+            "carrying": (("fixed", 0), n(4), ("packet", True)), "ref": (n(4), ("prim", "ref")),
+        }
+        rows = [(("part", 0), "tuple"), (("part", 2), "tuple"), (("field", "a"), "record"), (("argument",), "wrap carrying"), (("packet", False), "exception"),
+                (("prim", "neg"), "int"), (("prim", "fetch"), "ref"), (("prim", "print"), "int")]
+        function_with_three = function(("slot", 0), RETURN, captured=3)
+        for instruction, right in rows:
+            for kind, code in values.items():
+                end = self.run_all((main(*code, instruction, RETURN), function_with_three))[0]
+                self.assertEqual(end[0] == "value", kind in right.split(), (instruction, kind))
+                self.assertIn(end[0], ("value", "stuck"))
+        for kind, code in values.items():
+            length = len(code)
+            for instruction, right in ((("constructor", 0, length + 3), "con wrap"), (("integer", 0, length + 3), "int")):
+                end = self.run_all((main(*code, instruction, *TWO_WAYS), function_with_three))[0]
+                self.assertEqual(end, ("value", n(1)) if kind in right.split() else ("stuck", "kind"), (instruction, kind))
+            end = self.run_all((main(*code, ("fixed", 0), ("exception", length + 4), *TWO_WAYS), function_with_three))[0]
+            self.assertEqual(end, ("value", n(1)) if kind in ("packet", "carrying") else ("stuck", "kind"), kind)
+            end = self.run_all((main(("fixed", 0), ("packet", False), *code, ("exception", length + 5), *TWO_WAYS), function_with_three))[0]
+            self.assertEqual(end, ("value", n(1)) if kind == "exception" else ("stuck", "kind"), kind)
+            end = self.run_all((main(*code, n(1), ("prim", "assign"), RETURN), function_with_three))[0]
+            self.assertEqual(end, ("value", UNIT) if kind == "ref" else ("stuck", "kind"), kind)
+            end = self.run_all((main(*code, n(1), ("call",), RETURN), function_with_three))[0]
+            self.assertEqual(end, ("value", n(1)) if kind == "closure" else ("stuck", "kind"), kind)
+            end = self.run_all((main(*code, n(1), ("packet", True), RETURN), function_with_three))[0]
+            self.assertEqual(end, ("value", ("packet", 0, "Match", n(1))) if kind == "exception" else ("stuck", "kind"), kind)
+            end = self.run_all((main(*code, ("raise",)), function_with_three))[0]
+            self.assertEqual(end[0], "raised" if kind in ("packet", "carrying") else "stuck", kind)
+
     def test_store_and_output(self):
         code = (n(1), ("prim", "ref"), ("store", 0), n(2), ("prim", "ref"), ("store", 1), ("slot", 0), ("prim", "fetch"), ("prim", "print"), ("drop",),
                 ("slot", 0), n(5), ("prim", "assign"), ("drop",), ("slot", 0), ("prim", "fetch"), ("prim", "print"), ("slot", 1), ("tuple", 2), RETURN)
