@@ -43,8 +43,16 @@ def inside(entries, shape, value, store):
     if stamp == EXN_STAMP:
         return [] if value[0] == "packet" else None
     if stamp == REF_STAMP:
-        return [(shape[2][0], store[value[1]])] if value[0] == "ref" else None
+        return inside_reference(shape[2][0], value, store)
     return inside_constructor(entries, shape, value)
+
+
+def inside_reference(argument, value, store):
+    """The pair that must agree for a value to agree with a `ref` shape of this argument."""
+    # Python would count a negative place from the end of the store.
+    if value[0] != "ref" or not 0 <= value[1] < len(store):
+        return None
+    return [(argument, store[value[1]])]
 
 
 def inside_constructor(entries, shape, value):

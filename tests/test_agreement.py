@@ -128,6 +128,48 @@ class Shapes(unittest.TestCase):
         cycle = ("c", 3, (many(("c", 3, (INT,))),))
         self.says(True, cycle, REF, (cons(("ref", 1), NIL), ONE))
 
+    def check_places(self, store, right, entries=BASIS[0]):
+        """Of the places around a store only the right ones hold a value that agrees with `int ref`."""
+        for place in range(-len(store) - 2, len(store) + 3):
+            for depth in (2, 3, 60):
+                self.says(place in right, ("c", 3, (INT,)), ("ref", place), store, depth, entries)
+
+    def test_references_to_no_place(self):
+        for entries in (BASIS[0], (), (("exn", "E", None),)):
+            self.check_places((), (), entries)
+            self.check_places((ONE,), (0,), entries)
+            self.check_places((ONE, ONE, TRUE, ONE), (0, 1, 3), entries)
+        # Whether there is such a place is asked of the reference itself, what stands there only deeper.
+        for place, holds in ((0, True), (1, True), (2, False), (-1, False), (-2, False), (-3, False)):
+            self.says(holds, ("c", 3, (INT,)), ("ref", place), (ONE, TRUE), 1)
+            self.says(True, ("c", 3, (INT,)), ("ref", place), (ONE, TRUE), 0)
+        # No argument of the shape makes a place; not even a hidden one, with which any value agrees.
+        for argument in (A, EXN, ("f", INT, INT), ("c", 3, (INT,)), ("c", 8, ())):
+            for place in (1, -1):
+                self.says(False, ("c", 3, (argument,)), ("ref", place), (ONE,), 1)
+        self.says(True, ("c", 3, (("c", 8, ()),)), REF, (ONE,))
+        # A reference may be hidden itself.
+        self.says(True, ("c", 8, ()), ("ref", 1), ())
+
+    def test_references_to_no_place_inside_of_values(self):
+        ref = ("c", 3, (INT,))
+        store = (ONE, ("ref", 4), ("ref", -1), ("ref", 0))
+        for place, holds in ((0, True), (4, False), (-1, False), (-4, False)):
+            found = ("ref", place)
+            for shape, value, looked in (
+                (("t", (INT, ref)), ("tuple", (ONE, found)), 2),
+                (("t", (ref, INT)), ("tuple", (found, ONE)), 2),
+                (("c", 6, (ref,)), some(found), 2),
+                (many(ref), cons(REF, cons(found, NIL)), 5),
+            ):
+                self.says(holds, shape, value, store, looked)
+                self.says(holds, shape, value, store)
+                self.says(True, shape, value, store, looked - 1)
+        for place, holds in ((1, False), (2, False), (3, True)):
+            self.says(holds, ("c", 3, (ref,)), ("ref", place), store, 2)
+            self.says(holds, ("c", 3, (ref,)), ("ref", place), store)
+            self.says(True, ("c", 3, (ref,)), ("ref", place), store, 1)
+
     def test_shapes_beyond_the_bounds(self):
         """The argument of a constructor may have a shape that doubles at each level."""
         text = (
@@ -189,3 +231,17 @@ class Levels(unittest.TestCase):
         self.says(True, "val l = Nil", (("val l", NIL),))
         self.says(False, "val l = Nil", (("val l", cons(ONE, NIL)),))
         self.says(True, "val f = fn x => x", (("val f", FUN),))
+
+    def test_references_to_no_place(self):
+        text = "val r : int ref = ref 1 module M = struct val s : int ref option = None end"
+        for first, second, holds in ((0, 1, True), (1, 0, True), (2, 0, False), (0, 2, False), (-1, 0, False), (0, -2, False)):
+            inner = ("record", (("val s", some(("ref", second))),))
+            fields = (("val r", ("ref", first)), ("mod M", inner))
+            for depth in (2, 3, 60):
+                self.says(holds, text, fields, (ONE, ONE), depth)
+            # The reference of the module stands one level deeper in its value.
+            self.says(first in (0, 1), text, fields, (ONE, ONE), 1)
+            self.says(True, text, fields, (ONE, ONE), 0)
+        for place in (0, 1, -1):
+            self.says(False, "val r : int ref = ref 1", (("val r", ("ref", place)),), ())
+            self.says(True, "val r : int ref = ref 1", (("val r", ("ref", place)),), (), 0)
